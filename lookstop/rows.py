@@ -1,0 +1,95 @@
+"""Rows: the coefficients of a polynomial, from the lowest power upwards.
+
+A row that is returned is a tuple whose last coefficient is not zero; the zero polynomial has the empty row.
+Polynomials and what decides about them both calculate with rows, so that neither needs the other.
+"""
+
+
+def trimmed(coefs):
+    """Return the row without the zeros behind the last coefficient that is not zero."""
+    size = len(coefs)
+    while size > 0 and coefs[size - 1] == 0:
+        size -= 1
+    return tuple(coefs[:size])
+
+
+def plus(first, second):
+    """Return the row of the sum."""
+    size = max(len(first), len(second))
+    return trimmed([_coef(first, place) + _coef(second, place) for place in range(size)])
+
+
+def negated(row):
+    """Return the row of the negative."""
+    return tuple([-coef for coef in row])
+
+
+def times(first, second):
+    """Return the row of the product."""
+    return trimmed([_cross_sum(first, second, place) for place in range(len(first) + len(second) - 1)])
+
+
+def power(row, exponent):
+    """Return the row of the power; the power 0 of every row is that of 1."""
+    result = (1,)
+    square = row
+    left = exponent
+    while left > 0:
+        if left & 1:
+            result = times(result, square)
+        left = left // 2
+        # The last square would be by far the longest one, and nobody needs it.
+        if left > 0:
+            square = times(square, square)
+    return result
+
+
+def path_row(wins, losses):
+    """Return the row of x to the power `wins` times 1 - x to the power `losses`."""
+    return tuple([0 for _ in range(wins)]) + power((1, -1), losses)
+
+
+def quotient(row, divisor):
+    """Return the row whose product with `divisor` is `row`, or None if there is no such row of integers."""
+    if len(divisor) == 0:
+        return None
+    size = len(row) - len(divisor) + 1
+    found = [0 for _ in range(size)]
+    rest = list(row)
+    for place in reversed(range(size)):
+        coef, over = divmod(rest.pop(), divisor[-1])
+        if over != 0:
+            return None
+        found[place] = coef
+        for step, part in enumerate(divisor[:-1]):
+            rest[place + step] = rest[place + step] - coef * part
+    if any([left != 0 for left in rest]):
+        return None
+    return trimmed(found)
+
+
+def derived(row):
+    """Return the row of the derivative."""
+    return tuple([place * coef for place, coef in enumerate(row)][1:])
+
+
+def value_at(row, num, den):
+    """Return the value at num/den times `den` to the power of the degree."""
+    total = 0
+    scale = 1
+    for coef in row[::-1]:
+        total = total * num + coef * scale
+        scale = scale * den
+    return total
+
+
+def _coef(row, place):
+    if place < len(row):
+        return row[place]
+    return 0
+
+
+def _cross_sum(first, second, place):
+    start = max(0, place + 1 - len(second))
+    stop = min(place + 1, len(first))
+    return sum([first[at] * second[place - at] for at in range(start, stop)])

@@ -1,0 +1,218 @@
+"""The rules of the language that a reading of the files can show, and the interface's places and names."""
+
+import ast
+import builtins
+import inspect
+import unittest
+from importlib import import_module
+from pathlib import Path
+
+FOLDER = Path(__file__).resolve().parent.parent / "lookstop"
+FILES = sorted(FOLDER.glob("*.py"))
+
+# What each file of the interface defines: functions with their parameters, classes with their own methods.
+FUNCTIONS = {
+    "ratios": {
+        "ratio": "(num, den=1)",
+        "add": "(*terms)",
+        "multiply": "(*factors)",
+        "subtract": "(a, b)",
+        "divide": "(a, b)",
+        "compare": "(a, b)",
+        "midpoint": "(a, b)",
+        "is_share": "(value)",
+    },
+}
+CLASSES = {
+    "errors": {
+        "StopError": (), "InvalidRatio": (), "InvalidStretch": (), "NotExact": (), "InvalidWord": (),
+        "InvalidTable": (), "InvalidRing": (), "Endless": (), "InvalidText": (), "InvalidResult": (),
+        "TrialOver": (), "NothingToUndo": (), "NothingToRedo": (), "OverBudget": (),
+    },
+    "polys": {
+        "Poly": ("of", "path", "degree", "derivative", "__len__", "__repr__", "__getitem__", "__call__", "__iter__",
+                 "__add__", "__radd__", "__sub__", "__rsub__", "__mul__", "__rmul__", "__floordiv__", "__pow__",
+                 "__neg__", "__eq__", "__le__", "__ge__"),
+    },
+}
+
+LIBRARY = {
+    "math": {"gcd", "lcm", "isqrt", "comb", "perm", "factorial"},
+}
+BUILTINS = set("""len range enumerate zip min max sum abs sorted reversed int str bool bytes list tuple dict set
+    frozenset isinstance ord repr any all divmod iter next map Exception ValueError TypeError KeyError IndexError
+    LookupError ZeroDivisionError ArithmeticError OverflowError RuntimeError NotImplementedError AttributeError
+    NotImplemented property staticmethod classmethod super""".split())
+STATEMENTS = (ast.Assign, ast.AugAssign, ast.If, ast.While, ast.For, ast.Return, ast.Break, ast.Continue, ast.Pass,
+              ast.Raise, ast.Assert, ast.Delete, ast.Expr, ast.FunctionDef, ast.ClassDef, ast.ImportFrom, ast.Try,
+              ast.ExceptHandler)
+NAMES_BARRED = set("""register mro elements open input law version_info with_traceback add_note type typing enum
+    getattr setattr hasattr delattr globals locals vars dir eval exec compile id help exit quit hash""".split())
+
+
+def tree_of(file):
+    return ast.parse(file.read_text(encoding="ascii"))
+
+
+def own_imports(file):
+    return [node.module.split(".")[1] for node in ast.walk(tree_of(file))
+            if isinstance(node, ast.ImportFrom) and node.module.startswith("lookstop.")]
+
+
+class FilesTest(unittest.TestCase):
+    def test_the_folder_contains_python_files_only(self):
+        names = [path.name for path in FOLDER.iterdir() if path.name != "__pycache__"]
+        self.assertEqual(sorted(names), [file.name for file in FILES])
+
+    def test_characters_and_sizes(self):
+        for file in FILES:
+            data = file.read_bytes()
+            self.assertTrue(all(byte == 10 or 32 <= byte <= 126 for byte in data), file.name)
+            lines = data.decode("ascii").split("\n")
+            self.assertLessEqual(len(lines) - 1, 399, file.name)
+            self.assertLessEqual(max(map(len, lines)), 120, file.name)
+            for node in ast.walk(tree_of(file)):
+                if isinstance(node, ast.FunctionDef):
+                    self.assertLessEqual(node.end_lineno - node.lineno + 1, 40, f"{file.name}: {node.name}")
+
+    def test_module_level(self):
+        for file in FILES:
+            body = tree_of(file).body
+            for at, node in enumerate(body):
+                is_docstring = at == 0 and isinstance(node, ast.Expr) and isinstance(node.value, ast.Constant)
+                allowed = (ast.ImportFrom, ast.FunctionDef, ast.ClassDef, ast.Assign)
+                self.assertTrue(is_docstring or isinstance(node, allowed), f"{file.name}:{node.lineno}")
+
+
+class ImportsTest(unittest.TestCase):
+    def test_only_the_package_and_the_library(self):
+        for file in FILES:
+            for node in ast.walk(tree_of(file)):
+                self.assertNotIsInstance(node, ast.Import, file.name)
+                if not isinstance(node, ast.ImportFrom):
+                    continue
+                self.assertEqual(node.level, 0, file.name)
+                names = {alias.name for alias in node.names}
+                if node.module in LIBRARY:
+                    self.assertLessEqual(names, LIBRARY[node.module], file.name)
+                    self.assertTrue(all(alias.asname is None for alias in node.names), file.name)
+                    continue
+                folder, name = node.module.split(".")
+                self.assertEqual(folder, "lookstop")
+                defined = {part.name for part in tree_of(FOLDER / f"{name}.py").body
+                           if isinstance(part, (ast.FunctionDef, ast.ClassDef))}
+                self.assertLessEqual(names, defined, f"{file.name} imports from {name}")
+
+    def test_every_import_is_used(self):
+        for file in FILES:
+            tree = tree_of(file)
+            used = {node.id for node in ast.walk(tree) if isinstance(node, ast.Name)}
+            for node in ast.walk(tree):
+                if isinstance(node, ast.ImportFrom):
+                    self.assertLessEqual({alias.asname or alias.name for alias in node.names}, used, file.name)
+
+    def test_no_two_files_import_from_each_other(self):
+        imports = {file.stem: own_imports(file) for file in FILES}
+        done = []
+        while len(done) < len(imports):
+            ready = [name for name in imports if name not in done and all(part in done for part in imports[name])]
+            self.assertTrue(ready, sorted(set(imports) - set(done)))
+            done += ready
+
+
+class CodeTest(unittest.TestCase):
+    def every_node(self):
+        for file in FILES:
+            for node in ast.walk(tree_of(file)):
+                yield f"{file.name}:{getattr(node, 'lineno', 0)}", node
+
+    def test_statements(self):
+        for place, node in self.every_node():
+            if isinstance(node, (ast.stmt, ast.ExceptHandler)):
+                self.assertIsInstance(node, STATEMENTS, place)
+
+    def test_no_floats(self):
+        for place, node in self.every_node():
+            self.assertNotIsInstance(node, ast.Div, place)
+            if isinstance(node, ast.Constant):
+                self.assertNotIsInstance(node.value, (float, complex), place)
+
+    def test_strings(self):
+        for place, node in self.every_node():
+            if isinstance(node, ast.Constant) and isinstance(node.value, str):
+                self.assertNotIn(chr(37), node.value, place)
+
+    def test_no_power_of_the_literal_two(self):
+        for place, node in self.every_node():
+            if isinstance(node, ast.BinOp) and isinstance(node.op, ast.Pow) and isinstance(node.left, ast.Constant):
+                self.assertIsInstance(node.right, ast.Constant, place)
+
+    def test_builtins(self):
+        for place, node in self.every_node():
+            if isinstance(node, ast.Name) and hasattr(builtins, node.id):
+                self.assertIn(node.id, BUILTINS, place)
+
+    def test_names(self):
+        for place, node in self.every_node():
+            names = []
+            if isinstance(node, ast.Name) and isinstance(node.ctx, ast.Store):
+                names = [node.id]
+            elif isinstance(node, ast.arg):
+                names = [node.arg]
+            elif isinstance(node, (ast.FunctionDef, ast.ClassDef)):
+                names = [node.name]
+            for name in names:
+                self.assertNotIn(name, NAMES_BARRED, place)
+                self.assertFalse(hasattr(builtins, name) and not name.startswith("__"), place)
+
+    def test_no_name_of_an_import_or_class_is_bound_again(self):
+        for file in FILES:
+            tree = tree_of(file)
+            taken = {alias.name for node in tree.body if isinstance(node, ast.ImportFrom) for alias in node.names}
+            taken |= {node.name for node in tree.body if isinstance(node, ast.ClassDef)}
+            for node in ast.walk(tree):
+                if isinstance(node, ast.Name) and isinstance(node.ctx, ast.Store):
+                    self.assertNotIn(node.id, taken, f"{file.name}:{node.lineno}")
+                if isinstance(node, ast.arg):
+                    self.assertNotIn(node.arg, taken, f"{file.name}:{node.lineno}")
+
+    def test_in_place_signs_take_literal_integers(self):
+        # Beside a class with `__radd__` nothing else is added in place in what an operator runs.
+        for place, node in self.every_node():
+            if isinstance(node, ast.AugAssign):
+                self.assertIsInstance(node.value, ast.Constant, place)
+                self.assertIsInstance(node.value.value, int, place)
+
+    def test_no_generator_expressions(self):
+        # Beside a class with `__eq__`, `any`, `sum` and the like take lists.
+        for place, node in self.every_node():
+            self.assertNotIsInstance(node, ast.GeneratorExp, place)
+
+
+class InterfaceTest(unittest.TestCase):
+    def test_functions(self):
+        for name, functions in FUNCTIONS.items():
+            module = import_module(f"lookstop.{name}")
+            for function, parameters in functions.items():
+                made = getattr(module, function)
+                self.assertEqual(made.__module__, f"lookstop.{name}")
+                self.assertEqual(str(inspect.signature(made)), parameters, function)
+
+    def test_classes(self):
+        for name, classes in CLASSES.items():
+            module = import_module(f"lookstop.{name}")
+            for cls, methods in classes.items():
+                made = getattr(module, cls)
+                self.assertEqual(made.__module__, f"lookstop.{name}")
+                for method in methods:
+                    self.assertIn(method, vars(made), f"{cls}.{method}")
+
+    def test_class_methods_and_properties_of_polynomials(self):
+        parts = vars(import_module("lookstop.polys").Poly)
+        self.assertIsInstance(parts["of"], classmethod)
+        self.assertIsInstance(parts["path"], classmethod)
+        self.assertIsInstance(parts["degree"], property)
+
+
+if __name__ == "__main__":
+    unittest.main()
