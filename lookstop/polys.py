@@ -3,7 +3,7 @@
 from lookstop.errors import NotExact
 from lookstop.halving import is_nowhere_negative
 from lookstop.ratios import ratio
-from lookstop.rows import derived, negated, path_row, plus, power, quotient, times, trimmed, value_at
+from lookstop.rows import derived, negated, path_row, plus, power, quotient, raised, times, trimmed, value_at
 
 
 class Poly:
@@ -35,7 +35,7 @@ class Poly:
 
     def __call__(self, at):
         num, den = at
-        return ratio(value_at(self.coefs, num, den), den ** max(0, self.degree))
+        return ratio(value_at(self.coefs, num, den), raised(den, self.degree))
 
     def __len__(self):
         return len(self.coefs)

@@ -83,6 +83,14 @@ def value_at(row, num, den):
     return total
 
 
+def raised(number, exponent):
+    """Return the integer to the power `exponent`, and 1 if the exponent is not positive."""
+    result = 1
+    for _ in range(exponent):
+        result = result * number
+    return result
+
+
 def _coef(row, place):
     if place < len(row):
         return row[place]

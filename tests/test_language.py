@@ -54,6 +54,20 @@ def tree_of(file):
     return ast.parse(file.read_text(encoding="ascii"))
 
 
+def is_power_not_written_out(node):
+    """Tell whether a node is a power whose exponent is not a literal integer from 0 to 64."""
+    if isinstance(node, ast.BinOp):
+        exponent = node.right
+    elif isinstance(node, ast.AugAssign):
+        exponent = node.value
+    else:
+        return False
+    if not isinstance(node.op, ast.Pow):
+        return False
+    written_out = isinstance(exponent, ast.Constant) and type(exponent.value) is int and 0 <= exponent.value <= 64
+    return not written_out
+
+
 def own_imports(file):
     return [node.module.split(".")[1] for node in ast.walk(tree_of(file))
             if isinstance(node, ast.ImportFrom) and node.module.startswith("lookstop.")]
@@ -142,10 +156,17 @@ class CodeTest(unittest.TestCase):
             if isinstance(node, ast.Constant) and isinstance(node.value, str):
                 self.assertNotIn(chr(37), node.value, place)
 
-    def test_no_power_of_the_literal_two(self):
+    def test_exponents_are_written_out(self):
         for place, node in self.every_node():
-            if isinstance(node, ast.BinOp) and isinstance(node.op, ast.Pow) and isinstance(node.left, ast.Constant):
-                self.assertIsInstance(node.right, ast.Constant, place)
+            self.assertFalse(is_power_not_written_out(node), place)
+
+    def test_what_counts_as_an_exponent_that_is_not_written_out(self):
+        for line in ("den ** max(0, degree)", "2 ** n", "x ** -1", "x ** 65", "x ** True", "x ** 2 ** n", "n **= k",
+                     "n **= 65", "x ** (1 + 1)", "x ** '2'", "Poly(0, 1) ** len(rows)"):
+            self.assertTrue(any(is_power_not_written_out(node) for node in ast.walk(ast.parse(line))), line)
+        for line in ("x ** 0", "x ** 2", "2 ** 64", "((x + 1) ** 3) ** 2", "n **= 2", "n * k", "f(**more)",
+                     "def __pow__(self, other): return power(self, other)"):
+            self.assertFalse(any(is_power_not_written_out(node) for node in ast.walk(ast.parse(line))), line)
 
     def test_builtins(self):
         for place, node in self.every_node():

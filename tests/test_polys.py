@@ -120,6 +120,24 @@ class ValueTest(unittest.TestCase):
                 self.assertEqual(value, (expected.numerator, expected.denominator))
                 self.assertIs(type(value), tuple)
 
+    def test_many_digits_and_both_signs(self):
+        chance = random.Random(7)
+        for size in (0, 1, 2, 3, 21, 41):
+            coefs = [chance.randrange(-10 ** 999, 10 ** 999) for _ in range(size)]
+            poly = Poly.of(coefs)
+            for den in (1, 2, 10 ** 99 + 3, 10 ** 999 - 1):
+                for num in (0, 1, -1, den, -den, 7 * 10 ** 98 + 1, -10 ** 999 + 5):
+                    at = Fraction(num, den)
+                    expected = value_of(coefs, at)
+                    value = poly((at.numerator, at.denominator))
+                    self.assertEqual(value, (expected.numerator, expected.denominator))
+            self.assertEqual(poly((0, 1)), (poly[0], 1))
+            self.assertEqual(poly((1, 1)), (sum(coefs), 1))
+
+    def test_a_high_degree(self):
+        self.assertEqual(Poly.path(400, 0)((-2, 3)), (2 ** 400, 3 ** 400))
+        self.assertEqual(Poly.path(0, 401)((5, 3)), (-2 ** 401, 3 ** 401))
+
     def test_values_that_are_too_long_to_be_written(self):
         at = (10 ** 900 + 1, 10 ** 900)
         expected = value_of([1] * 41, Fraction(*at))
