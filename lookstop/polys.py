@@ -1,9 +1,8 @@
 """Polynomials in one variable, the share, with integer coefficients."""
 
 from lookstop.errors import NotExact
-from lookstop.halving import is_nowhere_negative
-from lookstop.ratios import ratio
-from lookstop.rows import derived, negated, path_row, plus, power, quotient, raised, times, trimmed, value_at
+from lookstop.judging import is_nowhere_negative
+from lookstop.rows import derived, negated, path_row, plus, power, quotient, times, trimmed, value_ratio
 
 
 class Poly:
@@ -35,7 +34,7 @@ class Poly:
 
     def __call__(self, at):
         num, den = at
-        return ratio(value_at(self.coefs, num, den), raised(den, self.degree))
+        return value_ratio(self.coefs, num, den)
 
     def __len__(self):
         return len(self.coefs)

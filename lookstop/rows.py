@@ -4,6 +4,8 @@ A row that is returned is a tuple whose last coefficient is not zero; the zero p
 Polynomials and what decides about them both calculate with rows, so that neither needs the other.
 """
 
+from math import gcd
+
 
 def trimmed(coefs):
     """Return the row without the zeros behind the last coefficient that is not zero."""
@@ -81,6 +83,46 @@ def value_at(row, num, den):
         total = total * num + coef * scale
         scale = scale * den
     return total
+
+
+def value_ratio(row, num, den):
+    """Return the value at num/den, a ratio, as a tuple in lowest terms.
+
+    To take what is shared out of one factor of the denominator after the other is much faster than to look for the
+    common divisor of two numbers with so many digits.
+    """
+    top = value_at(row, num, den)
+    bottom = 1
+    degree = len(row) - 1
+    for done in range(degree):
+        shared = gcd(top, den)
+        if shared == 1:
+            return (top, bottom * raised(den, degree - done))
+        top = top // shared
+        bottom = bottom * (den // shared)
+    return (top, bottom)
+
+
+def shifted(row, step):
+    """Return the list of the coefficients of the polynomial in x that has `row` as its coefficients in x + step."""
+    if step == 0:
+        return list(row)
+    total = []
+    for coef in row[::-1]:
+        # Products with a step of 1 would take more time than the sums.
+        moved = total if step == 1 else [step * low for low in total]
+        total = [high + low for high, low in zip([coef] + total, moved + [0])]
+    return total
+
+
+def scaled(row, factor):
+    """Return the list of the coefficients times the powers of `factor`, from the power 0 upwards."""
+    found = []
+    power_of_factor = 1
+    for coef in row:
+        found.append(coef * power_of_factor)
+        power_of_factor = power_of_factor * factor
+    return found
 
 
 def raised(number, exponent):

@@ -4,6 +4,8 @@ from math import gcd
 
 from lookstop.rows import derived, quotient, times, trimmed, value_at
 
+PRIME = 2305843009213693951
+
 
 def primitive(row):
     """Return the row divided so that no common divisor is left and the last coefficient is positive."""
@@ -31,6 +33,8 @@ def common_divisor(first, second):
     """
     one = primitive(first)
     other = primitive(second)
+    if share_nothing(one, other):
+        return (1,)
     base = 2 * sum([abs(coef) for coef in one]) + 2
     while True:
         shared = gcd(value_at(one, base, 1), value_at(other, base, 1))
@@ -38,6 +42,25 @@ def common_divisor(first, second):
         if quotient(one, found) is not None and quotient(other, found) is not None:
             return found
         base = base * base
+
+
+def share_nothing(first, second):
+    """Tell whether two rows have no common divisor of degree 1 or more, as far as their remainders by a prime show.
+
+    Most pairs of rows have none, and with remainders this takes little time however many digits there are. A common
+    divisor is one of the rows of remainders, too, and if the prime does not divide the last coefficient of `first`,
+    its degree stays. So True is right. False may be wrong.
+    """
+    if first[-1] % PRIME == 0:
+        return False
+    upper = trimmed([coef % PRIME for coef in first])
+    lower = trimmed([coef % PRIME for coef in second])
+    while len(lower) > 0:
+        while len(upper) >= len(lower):
+            below = [0 for _ in range(len(upper) - len(lower))] + list(lower)
+            upper = trimmed([(coef * lower[-1] - part * upper[-1]) % PRIME for coef, part in zip(upper, below)])
+        upper, lower = lower, upper
+    return len(upper) == 1
 
 
 def split_row(row):

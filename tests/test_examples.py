@@ -2,9 +2,13 @@
 
 import unittest
 
-from lookstop.errors import InvalidRatio, NotExact
+from lookstop.bounds import wrong_at, wrong_at_most
+from lookstop.errors import InvalidRatio, InvalidTable, InvalidWord, NotExact
 from lookstop.polys import Poly
 from lookstop.ratios import add, ratio
+from lookstop.signs import crossings, decide, is_certificate, sign_changes, sign_row, split_square
+from lookstop.tables import Table
+from lookstop.words import is_wrong, read_word
 
 
 class ExamplesTest(unittest.TestCase):
@@ -33,6 +37,66 @@ class ExamplesTest(unittest.TestCase):
     def test_orders(self):
         p = Poly.path(1, 1)
         self.assertEqual([p <= 1, p >= Poly(0, 1), Poly(0, 1) >= p], [True, False, True])
+
+    def test_sign_row(self):
+        self.assertEqual(sign_row(Poly(1, 0, -4), (0, 1), (1, 3)), [9, 18, 5])
+
+    def test_sign_changes(self):
+        self.assertEqual(sign_changes([3, 0, -1, 0, 2]), 2)
+
+    def test_split_square(self):
+        rest, root = split_square(Poly(0, 2, -4, 2))
+        self.assertEqual([rest.coefs, root.coefs], [(0, 2), (-1, 1)])
+
+    def test_decide(self):
+        answer = decide(Poly(1, -4, 4), (0, 1), (1, 1))
+        self.assertEqual(answer[0], "holds")
+
+    def test_is_certificate(self):
+        certificate = (Poly(1), Poly(-1, 2), [(0, 1), (1, 1)])
+        self.assertIs(is_certificate(Poly(1, -4, 4), (0, 1), (1, 1), certificate), True)
+
+    def test_crossings(self):
+        self.assertEqual(crossings(Poly(-1, 3) * Poly(-1, 2) ** 2, (0, 1), (1, 1)), 1)
+
+    def test_read_word(self):
+        with self.assertRaises(InvalidWord) as caught:
+            read_word("at least 2/4")
+        self.assertEqual(caught.exception.word, "at least 2/4")
+
+    def test_is_wrong(self):
+        found = [is_wrong("at least 1/2", (1, 2)), is_wrong("below 1/2", (1, 2)), is_wrong("no word", (1, 2))]
+        self.assertEqual(found, [False, True, False])
+
+
+class TableExamplesTest(unittest.TestCase):
+    def setUp(self):
+        self.table = Table(2, [1, 2], {(2, 0): "at least 1/2", (1, 1): "no word", (0, 2): "below 1/2",
+                                       (0, 1): "below 1/2"})
+
+    def test_reading_a_table(self):
+        table = self.table
+        self.assertEqual([table.ends(), table.ways(1, 1), len(table), (0, 2) in table, table.words],
+                         [[(0, 1, "below 1/2"), (1, 1, "no word"), (2, 0, "at least 1/2")], 1, 3, False,
+                          ("below 1/2", "no word", "at least 1/2")])
+
+    def test_chances_and_costs(self):
+        table = self.table
+        self.assertEqual([table.chance("below 1/2").coefs, table.mean_length().coefs,
+                          table.mean_cost(per_try=0, per_look=3).coefs], [(1, -1), (1, 1), (3, 3)])
+
+    def test_invalid_table(self):
+        with self.assertRaises(InvalidTable) as caught:
+            Table(2, [1], {(2, 0): "no word", (1, 1): "no word", (0, 2): "no word"})
+        self.assertEqual(caught.exception.place, "looks")
+
+    def test_wrong_at(self):
+        table = self.table
+        self.assertEqual([wrong_at(table, (1, 3)), wrong_at(table, (1, 2)), wrong_at(table, (1, 1))],
+                         [(1, 9), (1, 2), (0, 1)])
+
+    def test_wrong_at_most(self):
+        self.assertEqual(wrong_at_most(self.table, (1, 2))[0], "holds")
 
 
 if __name__ == "__main__":

@@ -22,6 +22,31 @@ FUNCTIONS = {
         "midpoint": "(a, b)",
         "is_share": "(value)",
     },
+    "signs": {
+        "sign_row": "(poly, low, high)",
+        "sign_changes": "(row)",
+        "split_square": "(poly)",
+        "is_certificate": "(poly, low, high, certificate)",
+        "decide": "(poly, low, high)",
+        "sign_map": "(poly, low, high, narrow)",
+        "crossings": "(poly, low, high)",
+        "crossing_stretches": "(poly, low, high, narrow)",
+        "greatest": "(poly, low, high, narrow)",
+    },
+    "words": {
+        "at_least": "(share)",
+        "below": "(share)",
+        "read_word": "(word)",
+        "is_wrong": "(word, share)",
+    },
+    "bounds": {
+        "wrong_at": "(table, share)",
+        "wrong_pieces": "(table)",
+        "wrong_at_most": "(table, bound)",
+        "length_at_most": "(table, bound)",
+        "worst_wrong": "(table, narrow)",
+        "fitting_shares": "(table, word, bound, narrow)",
+    },
 }
 CLASSES = {
     "errors": {
@@ -33,6 +58,20 @@ CLASSES = {
         "Poly": ("of", "path", "degree", "derivative", "__len__", "__repr__", "__getitem__", "__call__", "__iter__",
                  "__add__", "__radd__", "__sub__", "__rsub__", "__mul__", "__rmul__", "__floordiv__", "__pow__",
                  "__neg__", "__eq__", "__le__", "__ge__"),
+    },
+    "tables": {
+        "Table": ("__init__", "LONGEST", "words", "rule", "word_at", "is_end", "ways", "ends", "chance", "chances",
+                  "mean_cost", "mean_length", "with_look", "without_look", "__len__", "__contains__", "__eq__"),
+    },
+}
+# The parameters of methods whose callers may name them.
+METHODS = {
+    ("polys", "Poly"): {"of": "(coefs)", "path": "(wins, losses)", "derivative": "(self)"},
+    ("tables", "Table"): {
+        "__init__": "(self, limit, looks, rule)", "rule": "(self)", "word_at": "(self, wins, losses)",
+        "is_end": "(self, wins, losses)", "ways": "(self, wins, losses)", "ends": "(self)", "chance": "(self, word)",
+        "chances": "(self)", "mean_cost": "(self, *, per_try=1, per_look=0)", "mean_length": "(self)",
+        "with_look": "(self, tries)", "without_look": "(self, tries)",
     },
 }
 
@@ -66,6 +105,15 @@ def is_power_not_written_out(node):
         return False
     written_out = isinstance(exponent, ast.Constant) and type(exponent.value) is int and 0 <= exponent.value <= 64
     return not written_out
+
+
+def is_plain_number(node):
+    """Tell whether a node is plainly a number: a literal, the call of a builtin that gives one, or a sum of such."""
+    if isinstance(node, ast.BinOp):
+        return is_plain_number(node.left) and is_plain_number(node.right)
+    if isinstance(node, ast.Call):
+        return isinstance(node.func, ast.Name) and node.func.id in ("len", "int", "ord")
+    return isinstance(node, ast.Constant) and type(node.value) is int
 
 
 def own_imports(file):
@@ -204,6 +252,26 @@ class CodeTest(unittest.TestCase):
                 self.assertIsInstance(node.value, ast.Constant, place)
                 self.assertIsInstance(node.value.value, int, place)
 
+    def test_what_is_put_in_order_is_plainly_numbers(self):
+        # Polynomials have an order of their own, which none of these may meet.
+        for place, node in self.every_node():
+            if isinstance(node, ast.Call) and isinstance(node.func, ast.Name):
+                self.assertNotEqual(node.func.id, "sorted", place)
+                if node.func.id in ("min", "max"):
+                    self.assertTrue(len(node.args) > 1 and any(map(is_plain_number, node.args)), place)
+            if isinstance(node, ast.Attribute):
+                self.assertNotEqual(node.attr, "sort", place)
+
+    def test_generators_are_iterated_at_once(self):
+        nodes = list(self.every_node())
+        names = {node.name for _, node in nodes if isinstance(node, ast.FunctionDef)
+                 for part in ast.walk(node) if isinstance(part, (ast.Yield, ast.YieldFrom))}
+        self.assertEqual(names, {"chances"})
+        at_once = [node.iter for _, node in nodes if isinstance(node, (ast.For, ast.comprehension))]
+        for place, node in nodes:
+            if isinstance(node, ast.Call) and isinstance(node.func, ast.Attribute) and node.func.attr in names:
+                self.assertTrue(any(node is part for part in at_once), place)
+
     def test_no_generator_expressions(self):
         # Beside a class with `__eq__`, `any`, `sum` and the like take lists.
         for place, node in self.every_node():
@@ -227,6 +295,15 @@ class InterfaceTest(unittest.TestCase):
                 self.assertEqual(made.__module__, f"lookstop.{name}")
                 for method in methods:
                     self.assertIn(method, vars(made), f"{cls}.{method}")
+
+    def test_methods(self):
+        for (name, cls), methods in METHODS.items():
+            made = getattr(import_module(f"lookstop.{name}"), cls)
+            for method, parameters in methods.items():
+                self.assertEqual(str(inspect.signature(getattr(made, method))), parameters, method)
+
+    def test_the_words_of_a_table_are_a_property(self):
+        self.assertIsInstance(vars(import_module("lookstop.tables").Table)["words"], property)
 
     def test_class_methods_and_properties_of_polynomials(self):
         parts = vars(import_module("lookstop.polys").Poly)

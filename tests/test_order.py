@@ -5,6 +5,7 @@ import unittest
 from fractions import Fraction
 
 from lookstop.polys import Poly
+from lookstop.signs import decide
 
 
 def orders(p, q):
@@ -149,6 +150,18 @@ class OrderTest(unittest.TestCase):
         p = Poly.of([10 ** 999 + k for k in range(6)]) ** 6
         self.assertEqual(orders(p, p + 1), [True, False])
         self.assertEqual(orders(p * Poly(-1, 2) ** 2, 0), [False, True])
+
+    def test_orders_are_what_deciding_says(self):
+        chance = random.Random(16)
+        seen = set()
+        for _ in range(300):
+            p = Poly.of([chance.randrange(-9, 10) for _ in range(chance.randrange(5))]) ** chance.randrange(1, 3)
+            q = p + chance.choice((1, -1)) * point(chance.randrange(-2, 6), 4) ** chance.randrange(1, 4)
+            found = orders(p, q)
+            self.assertEqual(found, [decide(q - p, (0, 1), (1, 1))[0] == "holds",
+                                     decide(p - q, (0, 1), (1, 1))[0] == "holds"])
+            seen.add(tuple(found))
+        self.assertEqual(seen, {(False, False), (False, True), (True, False)})
 
     def test_nothing_is_changed(self):
         p, q = Poly(0, 1, -1), Poly(0, 1)
