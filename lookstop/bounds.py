@@ -19,7 +19,7 @@ def wrong_pieces(table):
     """Return the list of tuples (low, high, poly): the chance of a wrong word between the shares in the words."""
     poly = _wrong_poly(table, ZERO)
     steps = _steps(table)
-    cuts = [*_ascending(list(steps)), ONE]
+    cuts = _ascending(list(steps)) + [ONE]
     pieces = [(ZERO, cuts[0], poly)]
     for low, high in zip(cuts[:-1], cuts[1:]):
         poly = poly + steps[low]
