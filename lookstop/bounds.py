@@ -1,12 +1,9 @@
 """Bounds for all shares: how often a wrong word is said, and how many tries are made in the mean."""
 
 from lookstop.polys import Poly
-from lookstop.ratios import compare
+from lookstop.ratios import ONE, ZERO, compare
 from lookstop.signs import decide, greatest, sign_map
 from lookstop.words import is_wrong, read_word
-
-ZERO = (0, 1)
-ONE = (1, 1)
 
 
 def wrong_at(table, share):

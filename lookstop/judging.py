@@ -1,6 +1,7 @@
 """Decides whether a polynomial, given by its row, is negative somewhere on a stretch."""
 
 from lookstop.parting import ends_of, parts_of, whole_piece
+from lookstop.ratios import ONE, ZERO
 from lookstop.rows import value_at
 from lookstop.squares import split_row
 from lookstop.stretches import changes_in, first_sign, last_sign, point_on
@@ -35,7 +36,7 @@ def judged(row, low, high):
 
 def is_nowhere_negative(row):
     """Tell whether the polynomial is negative at no share from 0 to 1."""
-    share, _ = judged(row, (0, 1), (1, 1))
+    share, _ = judged(row, ZERO, ONE)
     return share is None
 
 

@@ -4,6 +4,9 @@ from math import gcd
 
 from lookstop.errors import InvalidRatio
 
+ZERO = (0, 1)
+ONE = (1, 1)
+
 
 def ratio(num, den=1):
     """Return the ratio num/den; `den` may be negative."""
@@ -17,7 +20,7 @@ def ratio(num, den=1):
 
 def add(*terms):
     """Return the sum of any number of ratios."""
-    total = (0, 1)
+    total = ZERO
     for num, den in terms:
         total = ratio(total[0] * den + num * total[1], total[1] * den)
     return total
@@ -25,7 +28,7 @@ def add(*terms):
 
 def multiply(*factors):
     """Return the product of any number of ratios."""
-    total = (1, 1)
+    total = ONE
     for num, den in factors:
         total = ratio(total[0] * num, total[1] * den)
     return total

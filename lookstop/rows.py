@@ -86,21 +86,25 @@ def value_at(row, num, den):
 
 
 def value_ratio(row, num, den):
-    """Return the value at num/den, a ratio, as a tuple in lowest terms.
+    """Return the value at num/den, a ratio, as a tuple in lowest terms."""
+    return lowest_terms(value_at(row, num, den), den, len(row) - 1)
+
+
+def lowest_terms(top, den, exponent):
+    """Return `top` divided by `den` to the power `exponent`, 1 if it is not positive, as a tuple in lowest terms.
 
     To take what is shared out of one factor of the denominator after the other is much faster than to look for the
     common divisor of two numbers with so many digits.
     """
-    top = value_at(row, num, den)
+    left = top
     bottom = 1
-    degree = len(row) - 1
-    for done in range(degree):
-        shared = gcd(top, den)
+    for done in range(exponent):
+        shared = gcd(left, den)
         if shared == 1:
-            return (top, bottom * raised(den, degree - done))
-        top = top // shared
+            return (left, bottom * raised(den, exponent - done))
+        left = left // shared
         bottom = bottom * (den // shared)
-    return (top, bottom)
+    return (left, bottom)
 
 
 def shifted(row, step):

@@ -1,7 +1,7 @@
 """Stopping tables: at which counts of wins and losses a trial ends, and which word is then said."""
 
 from lookstop.errors import InvalidTable, InvalidWord
-from lookstop.polys import Poly
+from lookstop.paths import counts_with, sum_of_paths, ways_from
 from lookstop.words import is_word
 
 
@@ -20,7 +20,7 @@ class Table:
         self.limit = limit
         self.looks = tuple(looks)
         self._rule = _in_order(limit, rule)
-        self._ways = _all_ways(self)
+        self._ways = ways_from(self, 0, 0)
         self._ends = _reached_ends(self)
 
     @property
@@ -54,7 +54,8 @@ class Table:
 
     def chance(self, word):
         """Return the polynomial of the chance that the trial ends with this word."""
-        return self._mean([1 if said == word else 0 for _, _, said in self._ends])
+        said = [(wins, losses) for wins, losses, other in self._ends if other == word]
+        return sum_of_paths({count: self._ways[count] for count in said})
 
     def chances(self):
         """Yield a pair (word, chance) for each word of `words`."""
@@ -63,12 +64,11 @@ class Table:
 
     def mean_cost(self, *, per_try=1, per_look=0):
         """Return the polynomial of the mean cost of a trial."""
-        costs = []
+        costs = {}
         for wins, losses, _ in self._ends:
-            tries = wins + losses
-            past = [look for look in self.looks if look <= tries]
-            costs.append(per_try * tries + per_look * len(past))
-        return self._mean(costs)
+            cost = cost_of(self.looks, wins + losses, per_try, per_look)
+            costs[(wins, losses)] = cost * self.ways(wins, losses)
+        return sum_of_paths(costs)
 
     def mean_length(self):
         """Return the polynomial of the mean number of tries."""
@@ -99,18 +99,11 @@ class Table:
             return False
         return self.limit == other.limit and self.looks == other.looks and self._rule == other._rule
 
-    def _mean(self, values):
-        """Return the polynomial of the mean of a value, which is given for each of the reached ends."""
-        total = Poly()
-        for (wins, losses, _), value in zip(self._ends, values):
-            if value != 0:
-                total = total + value * self.ways(wins, losses) * Poly.path(wins, losses)
-        return total
 
-
-def counts_with(tries):
-    """Return the counts with this number of tries, in ascending order of wins."""
-    return [(wins, tries - wins) for wins in range(tries + 1)]
+def cost_of(looks, tries, per_try, per_look):
+    """Return the price of a number of tries and of the looks among them."""
+    past = [look for look in looks if look <= tries]
+    return per_try * tries + per_look * len(past)
 
 
 def _are_looks(limit, looks):
@@ -141,18 +134,6 @@ def _in_order(limit, rule):
                     raise InvalidWord(rule[count])
                 ordered[count] = rule[count]
     return ordered
-
-
-def _all_ways(table):
-    """Return a dict that gives the number of ways for each count to which any lead."""
-    ways = {(0, 0): 1}
-    for tries in range(table.limit):
-        for wins, losses in counts_with(tries):
-            many = ways.get((wins, losses), 0)
-            if many > 0 and not table.is_end(wins, losses):
-                for after in ((wins + 1, losses), (wins, losses + 1)):
-                    ways[after] = ways.get(after, 0) + many
-    return ways
 
 
 def _reached_ends(table):

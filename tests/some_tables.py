@@ -1,10 +1,13 @@
 """Tables for tests, and what they say if every order of wins and losses is gone through."""
 
 import random
+from fractions import Fraction
 from itertools import product
 from math import gcd
 
 from lookstop.tables import Table
+from lookstop.words import is_wrong
+from tests.checks import pair
 
 RULE = {(2, 0): "at least 1/2", (1, 1): "no word", (0, 2): "below 1/2", (0, 1): "below 1/2"}
 
@@ -45,6 +48,28 @@ def long_table(most=100):
             if tries == 30 or (wins % 2 == 1 and losses % 2 == 1):
                 rule[wins, losses] = some_word(chance, most)
     return Table(30, list(range(1, 31)), rule)
+
+
+def silent_table(limit):
+    """A table with one look that never says anything about the share."""
+    return Table(limit, [limit], {count: "no word" for count in counts_of(limit)})
+
+
+def path_chance(wins, losses, share):
+    """The chance of so many wins and losses in one order, a Fraction."""
+    return share ** wins * (1 - share) ** losses
+
+
+def wrong_by_hand(table, share):
+    """The chance of a wrong word at a share, a Fraction."""
+    return sum((table.ways(wins, losses) * path_chance(wins, losses, share)
+                for wins, losses, word in table.ends() if is_wrong(word, pair(share))), Fraction(0))
+
+
+def length_by_hand(table, share):
+    """The mean number of tries at a share, a Fraction."""
+    return sum((table.ways(wins, losses) * (wins + losses) * path_chance(wins, losses, share)
+                for wins, losses, _ in table.ends()), Fraction(0))
 
 
 def all_trials(limit, looks, rule):

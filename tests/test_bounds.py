@@ -7,23 +7,11 @@ from lookstop.bounds import fitting_shares, length_at_most, worst_wrong, wrong_a
 from lookstop.polys import Poly
 from lookstop.signs import is_certificate, sign_map
 from lookstop.tables import Table
-from lookstop.words import is_wrong, read_word
+from lookstop.words import read_word
 from tests.checks import fraction, is_ratio, is_valid, pair, value_of
-from tests.some_tables import counts_of, long_table, small_table, some_table
+from tests.some_tables import counts_of, long_table, silent_table, small_table, some_table, wrong_by_hand
 
 NARROWS = (1, 1000, 1000000)
-
-
-def wrong_by_hand(table, share):
-    total = Fraction(0)
-    for wins, losses, word in table.ends():
-        if is_wrong(word, pair(share)):
-            total += table.ways(wins, losses) * share ** wins * (1 - share) ** losses
-    return total
-
-
-def silent_table(limit):
-    return Table(limit, [limit], {count: "no word" for count in counts_of(limit)})
 
 
 def rare_table():

@@ -4,10 +4,14 @@ import unittest
 
 from lookstop.bounds import wrong_at, wrong_at_most
 from lookstop.errors import InvalidRatio, InvalidTable, InvalidWord, NotExact
+from lookstop.moving import greatest_moving
+from lookstop.pairs import compare_lengths
+from lookstop.plans import least_plan, plan_risks
 from lookstop.polys import Poly
 from lookstop.ratios import add, ratio
 from lookstop.signs import crossings, decide, is_certificate, sign_changes, sign_row, split_square
 from lookstop.tables import Table
+from lookstop.wishers import greatest_wished
 from lookstop.words import is_wrong, read_word
 
 
@@ -97,6 +101,23 @@ class TableExamplesTest(unittest.TestCase):
 
     def test_wrong_at_most(self):
         self.assertEqual(wrong_at_most(self.table, (1, 2))[0], "holds")
+
+    def test_compare_lengths(self):
+        self.assertIsNone(compare_lengths(self.table, self.table.without_look(1))[1])
+
+    def test_greatest_wished(self):
+        self.assertEqual([greatest_wished(self.table, "no word").coefs,
+                          greatest_wished(self.table, "no word", skips=1).coefs], [(0, 1, -1), (0, 2, -2)])
+
+    def test_greatest_moving(self):
+        value, choices = greatest_moving(self.table, "at least 1/2", (1, 3), (1, 2))
+        self.assertEqual([value, choices[(0, 0)], choices[(1, 0)]], [(1, 4), (1, 2), (1, 2)])
+
+    def test_plan_risks(self):
+        self.assertEqual(plan_risks(3, 2, (1, 2), (2, 3)), ((1, 2), (7, 27)))
+
+    def test_least_plan(self):
+        self.assertEqual(least_plan((1, 2), (2, 3), (1, 2), (1, 3)), (1, 1, []))
 
 
 if __name__ == "__main__":

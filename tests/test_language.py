@@ -47,6 +47,27 @@ FUNCTIONS = {
         "worst_wrong": "(table, narrow)",
         "fitting_shares": "(table, word, bound, narrow)",
     },
+    "pairs": {
+        "compare_lengths": "(first, second)",
+        "compare_wrongs": "(first, second)",
+        "never_worse": "(first, second)",
+        "all_say": "(word, *tables)",
+        "any_says": "(word, *tables)",
+    },
+    "wishers": {
+        "greatest_wished": "(table, word, *, skips=0, early=False)",
+        "harm": "(table, word, *, skips=0, early=False)",
+    },
+    "moving": {
+        "greatest_moving": "(table, word, low, high)",
+        "least_moving": "(table, word, low, high)",
+    },
+    "plans": {
+        "plan": "(tries, least, low, high)",
+        "curtailed": "(tries, least, low, high)",
+        "plan_risks": "(tries, least, low, high)",
+        "least_plan": "(low, high, first, second, *, most=12)",
+    },
 }
 CLASSES = {
     "errors": {
@@ -121,6 +142,17 @@ def own_imports(file):
             if isinstance(node, ast.ImportFrom) and node.module.startswith("lookstop.")]
 
 
+def names_defined(file):
+    """The names that a file itself binds: its functions, its classes and its plain values."""
+    names = set()
+    for node in tree_of(file).body:
+        if isinstance(node, (ast.FunctionDef, ast.ClassDef)):
+            names.add(node.name)
+        elif isinstance(node, ast.Assign):
+            names |= {target.id for target in node.targets}
+    return names
+
+
 class FilesTest(unittest.TestCase):
     def test_the_folder_contains_python_files_only(self):
         names = [path.name for path in FOLDER.iterdir() if path.name != "__pycache__"]
@@ -161,9 +193,7 @@ class ImportsTest(unittest.TestCase):
                     continue
                 folder, name = node.module.split(".")
                 self.assertEqual(folder, "lookstop")
-                defined = {part.name for part in tree_of(FOLDER / f"{name}.py").body
-                           if isinstance(part, (ast.FunctionDef, ast.ClassDef))}
-                self.assertLessEqual(names, defined, f"{file.name} imports from {name}")
+                self.assertLessEqual(names, names_defined(FOLDER / f"{name}.py"), f"{file.name} imports from {name}")
 
     def test_every_import_is_used(self):
         for file in FILES:
