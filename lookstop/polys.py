@@ -2,6 +2,7 @@
 
 from lookstop.errors import NotExact
 from lookstop.judging import is_nowhere_negative
+from lookstop.ratios import is_integer
 from lookstop.rows import derived, negated, path_row, plus, power, quotient, times, trimmed, value_ratio
 
 
@@ -99,7 +100,7 @@ class Poly:
         return Poly(*row)
 
     def __pow__(self, other):
-        if not isinstance(other, int):
+        if not is_integer(other):
             return NotImplemented
         row = power(self.coefs, other)
         return Poly(*row)
@@ -124,6 +125,6 @@ def _row_of(value):
     """Return the row of a polynomial or an integer, None for any other value."""
     if isinstance(value, Poly):
         return value.coefs
-    if isinstance(value, int):
+    if is_integer(value):
         return trimmed((value,))
     return None

@@ -66,3 +66,8 @@ def is_share(value):
     """Tell whether a tuple of two integers is a ratio from 0 to 1."""
     num, den = value
     return den >= 1 and 0 <= num <= den and gcd(num, den) == 1
+
+
+def is_integer(value):
+    """Tell whether a value is an integer; True and False are none."""
+    return isinstance(value, int) and not isinstance(value, bool)

@@ -2,6 +2,7 @@
 
 from lookstop.errors import InvalidTable, InvalidWord
 from lookstop.paths import counts_with, sum_of_paths, ways_from
+from lookstop.ratios import is_integer
 from lookstop.words import is_word
 
 
@@ -11,9 +12,9 @@ class Table:
     LONGEST = 30
 
     def __init__(self, limit, looks, rule):
-        if not 1 <= limit <= Table.LONGEST:
+        if not is_integer(limit) or not 1 <= limit <= Table.LONGEST:
             raise InvalidTable("limit")
-        if not _are_looks(limit, looks):
+        if not are_looks(limit, looks):
             raise InvalidTable("looks")
         if not _has_counts(limit, rule):
             raise InvalidTable("rule")
@@ -76,15 +77,13 @@ class Table:
 
     def with_look(self, tries):
         """Return the table with one more look."""
-        if not 1 <= tries <= self.limit:
-            raise InvalidTable("looks")
+        _check_look(tries, self.limit)
         looks = [look for look in range(1, self.limit + 1) if look == tries or look in self.looks]
         return Table(self.limit, looks, self._rule)
 
     def without_look(self, tries):
         """Return the table with one look less."""
-        if not 1 <= tries < self.limit:
-            raise InvalidTable("looks")
+        _check_look(tries, self.limit - 1)
         return Table(self.limit, [look for look in self.looks if look != tries], self._rule)
 
     def __len__(self):
@@ -106,20 +105,31 @@ def cost_of(looks, tries, per_try, per_look):
     return per_try * tries + per_look * len(past)
 
 
-def _are_looks(limit, looks):
-    """Tell whether the looks are strictly ascending, from at least 1 to the limit."""
+def are_looks(limit, looks):
+    """Tell whether the looks are integers in strictly ascending order, from at least 1 to the limit."""
     latest = 0
     for look in looks:
-        if look <= latest:
+        if not is_integer(look) or look <= latest:
             return False
         latest = look
     return latest == limit
 
 
+def _check_look(tries, most):
+    """Raise InvalidTable if the number of tries is not from 1 to `most`."""
+    if not is_integer(tries) or not 1 <= tries <= most:
+        raise InvalidTable("looks")
+
+
+def _is_part(number):
+    """Tell whether this may be the wins or the losses of a count."""
+    return is_integer(number) and number >= 0
+
+
 def _has_counts(limit, rule):
     """Tell whether the rule has only counts with 1 to `limit` tries, and all of those with `limit` tries."""
     for wins, losses in rule:
-        if wins < 0 or losses < 0 or not 1 <= wins + losses <= limit:
+        if not _is_part(wins) or not _is_part(losses) or not 1 <= wins + losses <= limit:
             return False
     return all([count in rule for count in counts_with(limit)])
 

@@ -48,6 +48,16 @@ def is_word(text):
     return True
 
 
+def is_number(text):
+    """Tell whether the text is an integer from 1 upwards without leading zeros and not too long.
+
+    `isdigit` would take the digits of other scripts, too.
+    """
+    if not 1 <= len(text) <= MOST_DIGITS or text[0] == "0":
+        return False
+    return all([letter in DIGITS for letter in text])
+
+
 def _checked(word):
     """Return the text if it is a word."""
     read_word(word)
@@ -57,20 +67,10 @@ def _checked(word):
 def _read_share(word, text):
     """Return the share that stands at the end of a word, strictly between 0 and 1."""
     parts = text.split("/")
-    if len(parts) != 2 or not _is_number(parts[0]) or not _is_number(parts[1]):
+    if len(parts) != 2 or not is_number(parts[0]) or not is_number(parts[1]):
         raise InvalidWord(word)
     # No number is 0 here, so the share is not 0 either.
     share = (int(parts[0]), int(parts[1]))
     if not is_share(share) or share == (1, 1):
         raise InvalidWord(word)
     return share
-
-
-def _is_number(text):
-    """Tell whether the text is an integer from 1 upwards without leading zeros and not too long.
-
-    `isdigit` would take the digits of other scripts, too.
-    """
-    if not 1 <= len(text) <= MOST_DIGITS or text[0] == "0":
-        return False
-    return all([letter in DIGITS for letter in text])

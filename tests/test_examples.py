@@ -1,16 +1,20 @@
-"""The examples at the end of the document, as far as they speak of modules that there are."""
+"""All examples at the end of the document."""
 
 import unittest
 
+from lookstop.back import likeliest
 from lookstop.bounds import wrong_at, wrong_at_most
-from lookstop.errors import InvalidRatio, InvalidTable, InvalidWord, NotExact
+from lookstop.errors import Endless, InvalidRatio, InvalidTable, InvalidText, InvalidWord, NotExact, OverBudget
 from lookstop.moving import greatest_moving
+from lookstop.notation import read_table, write_table
 from lookstop.pairs import compare_lengths
 from lookstop.plans import least_plan, plan_risks
 from lookstop.polys import Poly
 from lookstop.ratios import add, ratio
+from lookstop.rings import Ring
 from lookstop.signs import crossings, decide, is_certificate, sign_changes, sign_row, split_square
 from lookstop.tables import Table
+from lookstop.trials import PaidTrial, Trial
 from lookstop.wishers import greatest_wished
 from lookstop.words import is_wrong, read_word
 
@@ -118,6 +122,41 @@ class TableExamplesTest(unittest.TestCase):
 
     def test_least_plan(self):
         self.assertEqual(least_plan((1, 2), (2, 3), (1, 2), (1, 3)), (1, 1, []))
+
+    def test_endless_ring(self):
+        with self.assertRaises(Endless) as caught:
+            Ring([(1, "no word"), (1, 1)])
+        self.assertEqual(caught.exception.state, 1)
+
+    def test_ring_with_one_word(self):
+        ring = Ring([(0, "below 1/2")])
+        top, bottom = ring.chance("below 1/2")
+        self.assertIs(top == bottom, True)
+
+    def test_likeliest(self):
+        self.assertEqual(likeliest([(2, 1), (0, 3)]), (1, 3))
+
+    def test_write_table(self):
+        self.assertEqual(write_table(self.table),
+                         "limit 2\nlooks 1 2\n0 1 below 1/2\n0 2 below 1/2\n1 1 no word\n2 0 at least 1/2")
+
+    def test_read_table(self):
+        with self.assertRaises(InvalidText) as caught:
+            read_table("limit 1\nlooks 1\n0 1 no word")
+        self.assertEqual(caught.exception.line, 4)
+
+    def test_trial(self):
+        trial = Trial(self.table)
+        first = trial.record("W")
+        second = trial.record("L")
+        self.assertEqual([first, second, trial.undo(), trial.verdict, trial.remaining("no word").coefs],
+                         [None, "no word", "L", None, (1, -1)])
+
+    def test_paid_trial(self):
+        trial = PaidTrial(self.table, 3, per_look=2)
+        with self.assertRaises(OverBudget) as caught:
+            trial.record("WW")
+        self.assertEqual(caught.exception.missing, 3)
 
 
 if __name__ == "__main__":

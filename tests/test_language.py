@@ -68,6 +68,15 @@ FUNCTIONS = {
         "plan_risks": "(tries, least, low, high)",
         "least_plan": "(low, high, first, second, *, most=12)",
     },
+    "back": {
+        "likelihood": "(ends)",
+        "likeliest": "(ends)",
+        "likely_shares": "(ends, part, narrow)",
+    },
+    "notation": {
+        "write_table": "(table)",
+        "read_table": "(text)",
+    },
 }
 CLASSES = {
     "errors": {
@@ -84,6 +93,14 @@ CLASSES = {
         "Table": ("__init__", "LONGEST", "words", "rule", "word_at", "is_end", "ways", "ends", "chance", "chances",
                   "mean_cost", "mean_length", "with_look", "without_look", "__len__", "__contains__", "__eq__"),
     },
+    "rings": {
+        "Ring": ("__init__", "MOST", "race", "solution", "chance", "lengths", "mean_length", "chance_at_most"),
+    },
+    "trials": {
+        "Trial": ("__init__", "wins", "losses", "tries", "verdict", "table", "record", "undo", "redo", "history",
+                  "change_table", "leads", "remaining", "remaining_length", "fork", "replay", "__len__"),
+        "PaidTrial": ("__init__", "paid", "budget", "record", "redo", "change_table", "change_budget", "fork"),
+    },
 }
 # The parameters of methods whose callers may name them.
 METHODS = {
@@ -94,6 +111,28 @@ METHODS = {
         "chances": "(self)", "mean_cost": "(self, *, per_try=1, per_look=0)", "mean_length": "(self)",
         "with_look": "(self, tries)", "without_look": "(self, tries)",
     },
+    ("rings", "Ring"): {
+        "__init__": "(self, rows, *, start=0)", "race": "(lead, lag, first, second)", "solution": "(self, word)",
+        "chance": "(self, word)", "lengths": "(self)", "mean_length": "(self)",
+        "chance_at_most": "(self, word, bound, low, high)",
+    },
+    ("trials", "Trial"): {
+        "__init__": "(self, table)", "record": "(self, results)", "undo": "(self)", "redo": "(self)",
+        "history": "(self)", "change_table": "(self, table)", "leads": "(self)", "remaining": "(self, word)",
+        "remaining_length": "(self)", "fork": "(self)", "replay": "(table, steps)",
+    },
+    ("trials", "PaidTrial"): {
+        "__init__": "(self, table, budget, *, per_try=1, per_look=0)", "record": "(self, results)", "redo": "(self)",
+        "change_table": "(self, table)", "change_budget": "(self, budget)", "fork": "(self)", "undo": "(self)",
+        "replay": "(table, steps)",
+    },
+}
+# The properties of each class, and whether they may be assigned.
+PROPERTIES = {
+    ("polys", "Poly"): {"degree": False},
+    ("tables", "Table"): {"words": False},
+    ("trials", "Trial"): {"wins": False, "losses": False, "tries": False, "verdict": False, "table": True},
+    ("trials", "PaidTrial"): {"paid": False, "budget": True},
 }
 
 LIBRARY = {
@@ -296,11 +335,28 @@ class CodeTest(unittest.TestCase):
         nodes = list(self.every_node())
         names = {node.name for _, node in nodes if isinstance(node, ast.FunctionDef)
                  for part in ast.walk(node) if isinstance(part, (ast.Yield, ast.YieldFrom))}
-        self.assertEqual(names, {"chances"})
+        self.assertEqual(names, {"chances", "leads"})
         at_once = [node.iter for _, node in nodes if isinstance(node, (ast.For, ast.comprehension))]
         for place, node in nodes:
             if isinstance(node, ast.Call) and isinstance(node.func, ast.Attribute) and node.func.attr in names:
                 self.assertTrue(any(node is part for part in at_once), place)
+
+    def test_super_calls_a_method_in_a_method(self):
+        for place, node in self.every_node():
+            if isinstance(node, ast.Attribute) and isinstance(node.value, ast.Call):
+                called = node.value.func
+                if isinstance(called, ast.Name) and called.id == "super":
+                    self.assertEqual(node.value.args, [], place)
+                    self.assertFalse(node.attr.startswith("_"), place)
+
+    def test_names_with_underscores(self):
+        barred = ("_wall", "_WallAttr", "_pe_", "_dcw_", "_enum_", "_cm_", "_twin_re_", "_lay_", "_law_", "_stub_", "_sre")
+        whole = ("_cold", "_tuplegetter", "_outside", "_record", "_written_out", "_member_names")
+        for place, node in self.every_node():
+            for name in [getattr(node, field, None) for field in ("id", "attr", "arg", "name")]:
+                if isinstance(name, str):
+                    self.assertFalse(name.startswith(barred), place)
+                    self.assertNotIn(name.rstrip("_0123456789"), whole, place)
 
     def test_no_generator_expressions(self):
         # Beside a class with `__eq__`, `any`, `sum` and the like take lists.
@@ -332,14 +388,17 @@ class InterfaceTest(unittest.TestCase):
             for method, parameters in methods.items():
                 self.assertEqual(str(inspect.signature(getattr(made, method))), parameters, method)
 
-    def test_the_words_of_a_table_are_a_property(self):
-        self.assertIsInstance(vars(import_module("lookstop.tables").Table)["words"], property)
+    def test_properties(self):
+        for (name, cls), properties in PROPERTIES.items():
+            made = vars(getattr(import_module(f"lookstop.{name}"), cls))
+            found = {part: value.fset is not None for part, value in made.items() if isinstance(value, property)}
+            self.assertEqual(found, properties, cls)
 
-    def test_class_methods_and_properties_of_polynomials(self):
-        parts = vars(import_module("lookstop.polys").Poly)
-        self.assertIsInstance(parts["of"], classmethod)
-        self.assertIsInstance(parts["path"], classmethod)
-        self.assertIsInstance(parts["degree"], property)
+    def test_class_and_static_methods(self):
+        for name, cls, method, kind in (("polys", "Poly", "of", classmethod), ("polys", "Poly", "path", classmethod),
+                                        ("rings", "Ring", "race", classmethod),
+                                        ("trials", "Trial", "replay", staticmethod)):
+            self.assertIsInstance(vars(getattr(import_module(f"lookstop.{name}"), cls))[method], kind, method)
 
 
 if __name__ == "__main__":
