@@ -117,7 +117,8 @@ class SharesTest(unittest.TestCase):
 
     def test_wins_alone_and_losses_alone(self):
         for narrow in NARROWS:
-            for wins, part, edge in ((2, (1, 4), Fraction(1, 2)), (3, (8, 27), Fraction(2, 3)), (1, (1, 3), Fraction(1, 3))):
+            for wins, part, edge in ((2, (1, 4), Fraction(1, 2)), (3, (8, 27), Fraction(2, 3)),
+                                     (1, (1, 3), Fraction(1, 3))):
                 for ends, mirrored in (([(wins, 0)], False), ([(0, wins)], True)):
                     for left, right, sign in likely_shares(ends, part, narrow):
                         left, right = fraction(left), fraction(right)

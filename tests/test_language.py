@@ -350,7 +350,8 @@ class CodeTest(unittest.TestCase):
                     self.assertFalse(node.attr.startswith("_"), place)
 
     def test_names_with_underscores(self):
-        barred = ("_wall", "_WallAttr", "_pe_", "_dcw_", "_enum_", "_cm_", "_twin_re_", "_lay_", "_law_", "_stub_", "_sre")
+        barred = ("_wall", "_WallAttr", "_pe_", "_dcw_", "_enum_", "_cm_", "_twin_re_", "_lay_", "_law_", "_stub_",
+                  "_sre")
         whole = ("_cold", "_tuplegetter", "_outside", "_record", "_written_out", "_member_names")
         for place, node in self.every_node():
             for name in [getattr(node, field, None) for field in ("id", "attr", "arg", "name")]:

@@ -9,7 +9,7 @@ from lookstop.moving import greatest_moving, least_moving
 from lookstop.polys import Poly
 from lookstop.ratios import ratio
 from lookstop.tables import Table
-from tests.checks import fraction, is_ratio, pair
+from tests.checks import fraction, is_ratio
 from tests.some_tables import all_trials, counts_of, long_table, silent_table, small_table, some_table
 
 STRETCHES = (((1, 3), (1, 2)), ((0, 1), (1, 1)), ((0, 1), (2, 5)), ((3, 4), (1, 1)),

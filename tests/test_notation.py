@@ -33,7 +33,8 @@ class WriteTest(unittest.TestCase):
         lines = write_table(silent_table(30)).split("\n")
         self.assertEqual(lines[:3] + lines[-1:], ["limit 30", "looks 30", "0 30 no word", "30 0 no word"])
         self.assertEqual(len(lines), 33)
-        every = Table(30, list(range(1, 31)), {count: "no word" for tries in range(1, 31) for count in counts_of(tries)})
+        rule = {count: "no word" for tries in range(1, 31) for count in counts_of(tries)}
+        every = Table(30, list(range(1, 31)), rule)
         lines = write_table(every).split("\n")
         self.assertEqual(lines[1], "looks " + " ".join(str(look) for look in range(1, 31)))
         self.assertEqual(len(lines), 497)

@@ -5,7 +5,7 @@ import unittest
 from fractions import Fraction
 from itertools import product
 
-from lookstop.errors import Endless, InvalidRing, InvalidStretch, InvalidWord
+from lookstop.errors import Endless, InvalidRing, InvalidStretch
 from lookstop.polys import Poly
 from lookstop.ratios import ratio
 from lookstop.rings import Ring

@@ -9,7 +9,7 @@ from lookstop.errors import InvalidResult, NothingToRedo, NothingToUndo, StopErr
 from lookstop.polys import Poly
 from lookstop.tables import Table
 from lookstop.trials import PaidTrial, Trial
-from tests.checks import pair, value_of
+from tests.checks import value_of
 from tests.some_tables import all_trials, counts_of, long_table, path_chance, silent_table, small_table, some_table
 
 WRONG_LETTERS = ("w", "l", " ", "\n", "0", "1", "X", "\u030a", "\uff37", "\x00")
@@ -204,7 +204,8 @@ class TableTest(TrialCase):
         trial = made(silent_table(5), "W", "WL")
         trial.record("W")
         trial.undo()
-        for other, word in ((small_table(), "at least 1/2"), (silent_table(1), "no word"), (silent_table(2), "no word")):
+        for other, word in ((small_table(), "at least 1/2"), (silent_table(1), "no word"),
+                            (silent_table(2), "no word")):
             self.assert_unchanged(trial, TrialOver, lambda: trial.change_table(other), word=word)
             self.assert_unchanged(trial, TrialOver, lambda: setattr(trial, "table", other), word=word)
         self.assertEqual(trial.redo(), "W")
