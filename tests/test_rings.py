@@ -9,8 +9,8 @@ from lookstop.errors import Endless, InvalidRing, InvalidStretch
 from lookstop.polys import Poly
 from lookstop.ratios import ratio
 from lookstop.rings import Ring
-from lookstop.signs import decide
-from tests.checks import fraction, is_valid, pair, value_of
+from lookstop.signs import decide, split_square
+from tests.checks import fraction, is_valid, pair, sturm_count, value_of
 
 SHARES = (Fraction(1, 2), Fraction(1, 3), Fraction(6, 7), Fraction(1, 10 ** 9), Fraction(10 ** 9 - 1, 10 ** 9))
 WORDS = ("at least 1/2", "below 1/2", "no word", "at least 9/10", f"below 1/{10 ** 29}")
@@ -206,10 +206,12 @@ class SolutionCase(unittest.TestCase):
         for poly in (*tops, bottom):
             self.assertIsInstance(poly, Poly)
             self.assertLessEqual(poly.degree, 40)
-        # Positive strictly between 0 and 1: nowhere negative, and no root there but in a square.
-        self.assertTrue(bottom >= 0)
-        for share in SHARES + tuple(Fraction(step, 97) for step in range(1, 97)):
+        # Positive strictly between 0 and 1: positive somewhere, and without a root there.
+        for share in SHARES:
             self.assertGreater(value_of(bottom.coefs, share), 0)
+        while bottom.degree > 0:
+            rest, bottom = split_square(bottom)
+            self.assertEqual(sturm_count(rest.coefs, Fraction(0), Fraction(1)) if rest.degree > 0 else 0, 0)
 
     def assert_solution(self, ring, word):
         answer = ring.solution(word)
